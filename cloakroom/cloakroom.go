@@ -1,0 +1,80 @@
+// Package cloakroom: a cache server for several tenants: see DOC.md.
+package cloakroom
+
+import (
+	"slices"
+	"strings"
+
+	"cloakroom/api"
+	"cloakroom/command"
+)
+
+// Server serves connections.
+type Server struct {
+	tenants map[string]api.Tenant // by name
+	conns   []bool                // by number: whether there is such a connection
+}
+
+// Line tells what a line is (P3).
+func Line(line string) string {
+	words, ok := command.Words(line)
+	if !ok {
+		return "bad"
+	}
+	// A piece of the line would hold the whole of it in memory.
+	return strings.Clone(words[0])
+}
+
+// Open makes a server (P4).
+func Open(l []api.Tenant, conns int) (*Server, api.Errno) {
+	tenants, ok := byName(l)
+	if !ok {
+		return nil, api.ErrTenants
+	}
+	if conns < 1 || conns > api.MaxConns {
+		return nil, api.ErrArg
+	}
+	return &Server{tenants: tenants, conns: make([]bool, conns)}, api.OK
+}
+
+// Dial opens a connection (P5).
+func (s *Server) Dial() (int, api.Errno) {
+	c := slices.Index(s.conns, false)
+	if c < 0 {
+		return 0, api.ErrFull
+	}
+	s.conns[c] = true
+	return c, api.OK
+}
+
+// Hang ends one (P5).
+func (s *Server) Hang(c int) api.Errno {
+	if !s.has(c) {
+		return api.ErrNone
+	}
+	s.conns[c] = false
+	return api.OK
+}
+
+// Feed gives a connection bytes (P6 to P9).
+func (s *Server) Feed(c int, bytes string) api.Errno {
+	if !s.has(c) {
+		return api.ErrNone
+	}
+	return api.OK
+}
+
+// Take takes at most n bytes of what was answered (P6).
+func (s *Server) Take(c int, n int) (string, api.Errno) {
+	if !s.has(c) {
+		return "", api.ErrNone
+	}
+	return "", api.OK
+}
+
+// Tick lets time go by (P10).
+func (s *Server) Tick(n int) api.Errno { return api.OK }
+
+func (s *Server) has(c int) bool {
+	return c >= 0 && c < len(s.conns) && s.conns[c]
+}
