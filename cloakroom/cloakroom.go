@@ -7,22 +7,23 @@ import (
 
 	"cloakroom/api"
 	"cloakroom/command"
+	"cloakroom/conn"
 )
 
 // Server serves connections.
 type Server struct {
-	tenants map[string]api.Tenant // by name
-	conns   []bool                // by number: whether there is such a connection
+	tenants map[string]tenant // by name
+	conns   []*conn.Conn      // by number: nil where there is none
 }
 
 // Line tells what a line is (P3).
 func Line(line string) string {
-	words, ok := command.Words(line)
+	read, ok := command.Read(line)
 	if !ok {
 		return "bad"
 	}
 	// A piece of the line would hold the whole of it in memory.
-	return strings.Clone(words[0])
+	return strings.Clone(read.Name)
 }
 
 // Open makes a server (P4).
@@ -34,16 +35,16 @@ func Open(l []api.Tenant, conns int) (*Server, api.Errno) {
 	if conns < 1 || conns > api.MaxConns {
 		return nil, api.ErrArg
 	}
-	return &Server{tenants: tenants, conns: make([]bool, conns)}, api.OK
+	return &Server{tenants: tenants, conns: make([]*conn.Conn, conns)}, api.OK
 }
 
 // Dial opens a connection (P5).
 func (s *Server) Dial() (int, api.Errno) {
-	c := slices.Index(s.conns, false)
+	c := slices.Index(s.conns, nil)
 	if c < 0 {
 		return 0, api.ErrFull
 	}
-	s.conns[c] = true
+	s.conns[c] = conn.New(s.storeOf)
 	return c, api.OK
 }
 
@@ -52,7 +53,7 @@ func (s *Server) Hang(c int) api.Errno {
 	if !s.has(c) {
 		return api.ErrNone
 	}
-	s.conns[c] = false
+	s.conns[c] = nil
 	return api.OK
 }
 
@@ -61,6 +62,7 @@ func (s *Server) Feed(c int, bytes string) api.Errno {
 	if !s.has(c) {
 		return api.ErrNone
 	}
+	s.conns[c].Feed(bytes)
 	return api.OK
 }
 
@@ -69,12 +71,12 @@ func (s *Server) Take(c int, n int) (string, api.Errno) {
 	if !s.has(c) {
 		return "", api.ErrNone
 	}
-	return "", api.OK
+	return s.conns[c].Take(n), api.OK
 }
 
 // Tick lets time go by (P10).
 func (s *Server) Tick(n int) api.Errno { return api.OK }
 
 func (s *Server) has(c int) bool {
-	return c >= 0 && c < len(s.conns) && s.conns[c]
+	return c >= 0 && c < len(s.conns) && s.conns[c] != nil
 }

@@ -1,4 +1,4 @@
-// Package command reads the lines of the protocol: which command a line is, and its words.
+// Package command reads the lines of the protocol: which command a line is, and what is said with it.
 package command
 
 import (
@@ -13,17 +13,51 @@ import (
 // mostWords is what the longest command has: a get of as many keys as it may ask for.
 const mostWords = 1 + api.MaxKeys
 
-// Words answers the words of a line (without its newline), the command first, or false if the line is bad.
-// The words are pieces of the line: who keeps one keeps the whole line, and should clone it.
-func Words(line string) ([]string, bool) {
+// Command is a line that is not bad.
+type Command struct {
+	Name    string
+	Texts   []string // the words behind the name that are no numbers: keys, or a tenant's name and its token
+	Numbers []int    // those that are
+}
+
+// Read answers the command that a line (without its newline) is, or false if the line is bad.
+// The texts are pieces of the line: who keeps one keeps the whole line, and should clone it.
+func Read(line string) (Command, bool) {
 	// One word more than any command has shows that there are too many, so a long line makes no long list.
 	words := strings.SplitN(line, " ", mostWords+1)
 	s, known := shapeOf(words[0])
 	if !known || !s.fits(words[1:]) {
-		return nil, false
+		return Command{}, false
 	}
-	return words, true
+	c := Command{Name: words[0]}
+	for i, w := range words[1:] {
+		if s.rules[i].isNumber {
+			n, _ := numberOf(w)
+			c.Numbers = append(c.Numbers, n)
+		} else {
+			c.Texts = append(c.Texts, w)
+		}
+	}
+	return c, true
 }
+
+// Stores tells whether the command is one of those that have flags and a size, and want a value behind their line.
+func (c Command) Stores() bool {
+	switch c.Name {
+	case "set", "add", "replace", "cas":
+		return true
+	}
+	return false
+}
+
+// Flags is for a command that stores.
+func (c Command) Flags() int { return c.Numbers[0] }
+
+// Size is for a command that stores.
+func (c Command) Size() int { return c.Numbers[2] }
+
+// Mark is for cas.
+func (c Command) Mark() int { return c.Numbers[3] }
 
 // shape says what may stand behind a command: a rule for each word, of which the first few must be there.
 type shape struct {

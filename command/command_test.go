@@ -6,24 +6,46 @@ import (
 	"testing"
 )
 
-func TestWordsOfACommand(t *testing.T) {
-	for _, want := range [][]string{
-		{"quit"},
-		{"auth", "ann", "x"},
-		{"get", "a", "b", "a"},
-		{"cas", "k", "65535", "1000000", "100", "999999999"},
+func TestReadACommand(t *testing.T) {
+	for line, want := range map[string]Command{
+		"quit":       {Name: "quit"},
+		"auth ann x": {Name: "auth", Texts: []string{"ann", "x"}},
+		"auth 1 2":   {Name: "auth", Texts: []string{"1", "2"}},
+		"get a 7 a":  {Name: "get", Texts: []string{"a", "7", "a"}},
+		"incr 5 6":   {Name: "incr", Texts: []string{"5"}, Numbers: []int{6}},
+		"set k 0 1 2": {
+			Name: "set", Texts: []string{"k"}, Numbers: []int{0, 1, 2}},
+		"cas 3 65535 1000000 100 999999999": {
+			Name: "cas", Texts: []string{"3"}, Numbers: []int{65535, 1000000, 100, 999999999}},
 	} {
-		got, ok := Words(strings.Join(want, " "))
-		if !ok || !slices.Equal(got, want) {
-			t.Errorf("Words of %q = %q, %v", want, got, ok)
+		got, ok := Read(line)
+		if !ok || got.Name != want.Name || !slices.Equal(got.Texts, want.Texts) || !slices.Equal(got.Numbers, want.Numbers) {
+			t.Errorf("Read(%q) = %+v, %v, want %+v", line, got, ok, want)
 		}
 	}
 }
 
-func TestNoWordsOfABadLine(t *testing.T) {
-	for _, line := range []string{"", " ", "get", "get a ", "stats x", "what", "get a\n"} {
-		if got, ok := Words(line); ok || got != nil {
-			t.Errorf("Words(%q) = %q, %v, want none", line, got, ok)
+func TestNothingReadOfABadLine(t *testing.T) {
+	for _, line := range []string{"", " ", "get", "get a ", "stats x", "what", "get a\n", "set k 1 2 101"} {
+		if got, ok := Read(line); ok || got.Name != "" || got.Texts != nil || got.Numbers != nil {
+			t.Errorf("Read(%q) = %+v, %v, want nothing", line, got, ok)
+		}
+	}
+}
+
+func TestCommandsThatStore(t *testing.T) {
+	for _, line := range []string{"set k 7 8 9", "add k 7 8 9", "replace k 7 8 9", "cas k 7 8 9 10"} {
+		c, _ := Read(line)
+		if !c.Stores() || c.Flags() != 7 || c.Size() != 9 {
+			t.Errorf("%q: stores: %v, %+v", line, c.Stores(), c)
+		}
+	}
+	if c, _ := Read("cas k 7 8 9 10"); c.Mark() != 10 {
+		t.Errorf("the mark of a cas is %d, not 10", c.Mark())
+	}
+	for _, line := range []string{"auth a b", "quit", "get a", "delete a", "incr a 1", "touch a 1", "stats", "bad"} {
+		if c, _ := Read(line); c.Stores() {
+			t.Errorf("%q stores", line)
 		}
 	}
 }

@@ -1,0 +1,102 @@
+package cloakroom_test
+
+import (
+	"math"
+	"math/rand"
+	"strings"
+	"testing"
+
+	"cloakroom/api"
+	"cloakroom/cloakroom"
+)
+
+func TestTenantsWithTheSameKeys(t *testing.T) {
+	s := dialled(t, 3, tenant("ann", "x", 40), tenant("bob", "y", 40))
+	says(t, s, 0, "auth ann x|set a 1 0 3|ann|", "OK|STORED|")
+	says(t, s, 1, "auth bob y|get a|replace a 2 0 3|bob|cas a 2 0 3 1|bob|add a 2 0 3|bob|", "OK|END|NOT STORED|NOT FOUND|STORED|")
+	says(t, s, 0, "get a|", "VALUE a 1 3 1|ann|END|")
+	says(t, s, 1, "get a|set b 2 0 3|bob|set c 2 0 3|bob|", "VALUE a 2 3 1|bob|END|STORED|STORED|")
+	says(t, s, 0, "get a b c|cas a 1 0 3 1|Ann|", "VALUE a 1 3 1|ann|END|STORED|")
+	says(t, s, 1, "get b c|", "VALUE b 2 3 2|bob|VALUE c 2 3 3|bob|END|")
+	// What nobody's connection says, and a tenant's bytes that are no line yet, touch nobody.
+	says(t, s, 2, "set a 0 0 3|xyz|auth ann y|set b 0 0", "ERROR auth|ERROR auth|DENIED|")
+	says(t, s, 0, "get a b|", "VALUE a 1 3 2|Ann|END|")
+	says(t, s, 1, "get a b|", "VALUE b 2 3 2|bob|END|")
+}
+
+// part is what comes to one connection at one time.
+type part struct {
+	conn  int
+	bytes string
+}
+
+// partsOf cuts what each connection is to be fed with, and mixes the pieces.
+func partsOf(r *rand.Rand, ins []string) []part {
+	var parts []part
+	left := append([]string(nil), ins...)
+	for strings.Join(left, "") != "" {
+		c := r.Intn(len(left))
+		n := min(len(left[c]), 1+r.Intn(60))
+		parts = append(parts, part{c, left[c][:n]})
+		left[c] = left[c][n:]
+	}
+	return parts
+}
+
+// fed answers what these connections were answered, of the parts that are theirs.
+func fed(s *cloakroom.Server, parts []part, conns ...int) string {
+	for _, p := range parts {
+		for _, c := range conns {
+			if p.conn == c {
+				s.Feed(c, p.bytes)
+			}
+		}
+	}
+	out := ""
+	for _, c := range conns {
+		x, _ := s.Take(c, math.MaxInt)
+		out += x + "--\n"
+	}
+	return out
+}
+
+// Two connections of each tenant: whatever the others say, they are answered as if they were alone on the server.
+func TestNobodyNoticesTheOthers(t *testing.T) {
+	r := rand.New(rand.NewSource(3))
+	l := []api.Tenant{tenant("ann", "x", 90), tenant("bob", "x", 150), tenant("eve", "x", 40)}
+	for range 1000 {
+		var ins []string
+		for c := range 6 {
+			name := l[c%3].Name
+			ins = append(ins, bytesOf(r, name, name, "dan"))
+		}
+		parts := partsOf(r, ins)
+		together := dialled(t, 6, l...)
+		all := fed(together, parts, 0, 1, 2, 3, 4, 5)
+		answers := strings.SplitAfter(all, "--\n")
+		for c := range 3 {
+			alone := fed(dialled(t, 6, l...), parts, c, c+3)
+			if got := answers[c] + answers[c+3]; got != alone {
+				t.Fatalf("P9: %s is answered\n%q\n among others, and\n%q\n alone, to %+v", l[c].Name, got, alone, parts)
+			}
+		}
+	}
+}
+
+func TestServersOfTheSameTenants(t *testing.T) {
+	r := rand.New(rand.NewSource(4))
+	l := []api.Tenant{tenant("ann", "x", 90)}
+	for range 300 {
+		parts := partsOf(r, []string{bytesOf(r, "ann"), bytesOf(r, "ann")})
+		servers := []*cloakroom.Server{dialled(t, 2, l...), dialled(t, 2, l...)}
+		for _, p := range parts {
+			servers[p.conn].Feed(p.conn, p.bytes)
+		}
+		for c, s := range servers {
+			got, _ := s.Take(c, math.MaxInt)
+			if want := fed(dialled(t, 2, l...), parts, c); got+"--\n" != want {
+				t.Fatalf("P2: beside another server %+v is answered\n%q\n want\n%q", parts, got, want)
+			}
+		}
+	}
+}
