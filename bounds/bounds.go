@@ -13,6 +13,9 @@ func Word(s string, most int) bool { return within(s, most, leastByte, mostByte)
 // Letters tells whether s is 1 to most letters a to z.
 func Letters(s string, most int) bool { return within(s, most, 'a', 'z') }
 
+// Digits tells whether s is 1 to most digits.
+func Digits(s string, most int) bool { return within(s, most, '0', '9') }
+
 func within(s string, most int, low, high byte) bool {
 	if len(s) < 1 || len(s) > most {
 		return false

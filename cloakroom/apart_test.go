@@ -60,7 +60,27 @@ func fed(s *cloakroom.Server, parts []part, conns ...int) string {
 	return out
 }
 
-// Two connections of each tenant: whatever the others say, they are answered as if they were alone on the server.
+// fedAmong feeds all parts, with another server and a connection that comes and goes in between, and answers what each connection was answered.
+func fedAmong(t *testing.T, l []api.Tenant, parts []part, conns int) []string {
+	t.Helper()
+	s, other := dialled(t, conns, l...), dialled(t, conns, l...)
+	for _, p := range parts {
+		other.Feed(conns-1-p.conn, p.bytes)
+		s.Feed(p.conn, p.bytes)
+		other.Feed(p.conn, "\nauth ann x\nset a 0 0 1\n1\nstats\n")
+		c, _ := s.Dial()
+		s.Feed(c, "stats\ndelete a\nauth ann wrong\nset a 0 0 1\n1\nget a\nquit")
+		s.Hang(c)
+	}
+	var answers []string
+	for c := range conns {
+		x, _ := s.Take(c, math.MaxInt)
+		answers = append(answers, x+"--\n")
+	}
+	return answers
+}
+
+// Two connections of each tenant, and one of nobody: whatever the others say, they are answered as if they were alone on the server.
 func TestNobodyNoticesTheOthers(t *testing.T) {
 	r := rand.New(rand.NewSource(3))
 	l := []api.Tenant{tenant("ann", "x", 90), tenant("bob", "x", 150), tenant("eve", "x", 40)}
@@ -70,10 +90,12 @@ func TestNobodyNoticesTheOthers(t *testing.T) {
 			name := l[c%3].Name
 			ins = append(ins, bytesOf(r, name, name, "dan"))
 		}
+		ins = append(ins, bytesOf(r, "dan", "nobody"))
 		parts := partsOf(r, ins)
-		together := dialled(t, 6, l...)
-		all := fed(together, parts, 0, 1, 2, 3, 4, 5)
-		answers := strings.SplitAfter(all, "--\n")
+		answers := fedAmong(t, l, parts, 7)
+		if strings.Contains(answers[6], "OK") {
+			t.Fatalf("the last connection should belong to nobody: %q", answers[6])
+		}
 		for c := range 3 {
 			alone := fed(dialled(t, 6, l...), parts, c, c+3)
 			if got := answers[c] + answers[c+3]; got != alone {
@@ -81,6 +103,21 @@ func TestNobodyNoticesTheOthers(t *testing.T) {
 			}
 		}
 	}
+}
+
+// What each of them has done is told by stats, by the marks and by who goes first: to it alone.
+func TestOtherTenantsAtWork(t *testing.T) {
+	work := "set a 7 5 2|09|incr a 1|touch b 1|add b 0 0 3|bbb|touch a 9|set c 0 0 3|ccc|delete c|cas b 1 0 2 2|bb|get a b c|"
+	l := []api.Tenant{tenant("ann", "x", 40), tenant("bob", "x", 40), tenant("eve", "x", 2000)}
+	s, other := dialled(t, 4, l...), dialled(t, 1, l...)
+	says(t, s, 0, "auth ann x|set a 3 0 3|001|set b 4 0 3|bbb|get a|", "OK|STORED|STORED|VALUE a 3 3 1|001|END|")
+	says(t, s, 3, work, strings.Repeat("ERROR auth|", strings.Count(work, "|"))) // its values are lines, too
+	for c, name := range map[int]string{1: "bob", 2: "eve"} {
+		s.Feed(c, unbarred("auth "+name+" x|"+work+work+"stats|delete a|delete b|"))
+	}
+	other.Feed(0, unbarred("auth ann x|"+work+work+"stats|delete a|delete b|"))
+	says(t, s, 0, "stats|set c 0 0 3|ccc|get a b c|incr a 1|delete c|stats|", statsOf(1, 1, 2, 0, 2, 40)+
+		"STORED|VALUE a 3 3 1|001|VALUE c 0 3 3|ccc|END|2|DELETED|"+statsOf(4, 3, 4, 1, 1, 18))
 }
 
 func TestServersOfTheSameTenants(t *testing.T) {

@@ -15,6 +15,7 @@ var cuttable = []string{
 	"auth ann x|set a 0 0 1|\r|cas a 1 0 1 1|||cas a 1 0 1 1|y|replace a 2 0 2|\r||get a|auth bob y|get a|set a 0 0 2|zz|get a|",
 	"auth ann x|" + strings.Repeat("x", 120) + "|" + strings.Repeat("y", 121) + "|get a|",
 	strings.Repeat("x", 119) + "\r|" + strings.Repeat("y", 120) + "\r|auth bob y|set a 0 0 3|abcdefg|get a|",
+	"auth ann x|set n 3 5 2|09|incr n 1\r|incr n 999999999|incr n 1|touch n 5|delete n\r|delete n|touch n 0|incr n 1|stats\r|stats |",
 	strings.Repeat("x", 245) + "|get a|auth ann x|set b 0 0 5|12345",
 }
 
@@ -69,6 +70,7 @@ func TestEachAnswerAtItsByte(t *testing.T) {
 		{"get a|get a|", []int{6, 12}},
 		{"auth ann x|set a 0 0 2|ab|get a|", []int{11, 26, 32}},
 		{"auth ann x|set a 0 0 2|abc|get a|", []int{11, 26, 33}},
+		{"auth ann x|incr a 1|touch a 1|delete a|stats|", []int{11, 20, 30, 39, 45}},
 		{strings.Repeat("x", 125) + "|get a|", []int{121, 132}},
 		{strings.Repeat("x", 120) + "|get a|", []int{121, 127}},
 	} {

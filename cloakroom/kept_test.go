@@ -47,7 +47,9 @@ func TestNothingHandedInIsKept(t *testing.T) {
 	feed("ther third\n")
 	feed(strings.Repeat("x", 120))
 	feed("\n")
-	says(t, s, 0, "", "OK|STORED|STORED|STORED|VALUE some 7 5 1|value|VALUE another 8 3 2|abc|VALUE third 0 1 3|z|END|ERROR bad|")
+	feed("set count 9 0 2\n07\nincr count 3\ntouch some 9\ndelete third\nset large 0 0 60\n" + strings.Repeat("l", 60) + "\n")
+	says(t, s, 0, "", "OK|STORED|STORED|STORED|VALUE some 7 5 1|value|VALUE another 8 3 2|abc|VALUE third 0 1 3|z|END|ERROR bad|STORED|10|TOUCHED|DELETED|STORED|")
+	says(t, s, 0, "get some another third count|incr count 1|touch some 0|get count some|", "VALUE some 7 5 1|value|VALUE another 8 3 2|abc|VALUE count 9 2 5|10|END|11|TOUCHED|VALUE count 9 2 7|11|VALUE some 7 5 1|value|END|")
 }
 
 func TestWhatWasTakenStaysAsItIs(t *testing.T) {

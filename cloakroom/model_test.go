@@ -4,6 +4,7 @@ import (
 	"fmt"
 	"math"
 	"math/rand"
+	"regexp"
 	"slices"
 	"strconv"
 	"strings"
@@ -23,8 +24,9 @@ type modelEntry struct {
 
 type modelTenant struct {
 	api.Tenant
-	row   []modelEntry
-	marks int
+	row                         []modelEntry
+	marks                       int
+	gets, hits, stores, evicted int
 }
 
 func (m *modelTenant) at(key string) int {
@@ -34,13 +36,20 @@ func (m *modelTenant) at(key string) int {
 func (m *modelTenant) get(keys []string) string {
 	out := ""
 	for _, key := range keys {
+		m.gets++
 		if i := m.at(key); i >= 0 {
-			e := m.row[i]
+			m.hits++
+			e := m.use(i)
 			out += fmt.Sprintf("VALUE %s %d %d %d\n%s\n", key, e.flags, len(e.value), e.mark, e.value)
-			m.row = append(slices.Delete(m.row, i, i+1), e)
 		}
 	}
 	return out + "END\n"
+}
+
+func (m *modelTenant) use(i int) modelEntry {
+	e := m.row[i]
+	m.row = append(slices.Delete(m.row, i, i+1), e)
+	return e
 }
 
 func (m *modelTenant) store(words []string, value string) string {
@@ -52,19 +61,56 @@ func (m *modelTenant) store(words []string, value string) string {
 		return "NOT FOUND\n"
 	case words[0] == "cas" && strconv.Itoa(m.row[i].mark) != words[5]:
 		return "EXISTS\n"
-	case len(words[1])+len(value)+16 > m.Quota:
+	}
+	flags, _ := strconv.Atoi(words[2])
+	return m.put(words[1], value, flags, "STORED\n")
+}
+
+// put answers what is said, if there is room.
+func (m *modelTenant) put(key, value string, flags int, said string) string {
+	if len(key)+len(value)+16 > m.Quota {
 		return "TOO LARGE\n"
 	}
-	if i >= 0 {
+	if i := m.at(key); i >= 0 {
 		m.row = slices.Delete(m.row, i, i+1)
 	}
 	m.marks++
-	flags, _ := strconv.Atoi(words[2])
-	m.row = append(m.row, modelEntry{words[1], value, flags, m.marks})
+	m.stores++
+	m.row = append(m.row, modelEntry{key, value, flags, m.marks})
 	for m.cost() > m.Quota {
 		m.row = m.row[1:]
+		m.evicted++
 	}
-	return "STORED\n"
+	return said
+}
+
+var digits = regexp.MustCompile(`^[0-9]{1,9}\z`)
+
+// other does delete, incr and touch.
+func (m *modelTenant) other(words []string) string {
+	i := m.at(words[1])
+	switch {
+	case i < 0:
+		return "NOT FOUND\n"
+	case words[0] == "delete":
+		m.row = slices.Delete(m.row, i, i+1)
+		return "DELETED\n"
+	case words[0] == "touch":
+		m.use(i)
+		return "TOUCHED\n"
+	case !digits.MatchString(m.row[i].value):
+		return "NOT NUMBER\n"
+	}
+	var there, more int64
+	fmt.Sscanf(m.row[i].value, "%d", &there)
+	fmt.Sscanf(words[2], "%d", &more)
+	sum := fmt.Sprint(there + more)
+	return m.put(words[1], sum, m.row[i].flags, sum+"\n")
+}
+
+func (m *modelTenant) stats() string {
+	return fmt.Sprintf("gets %d\nhits %d\nstores %d\nevicted %d\nexpired 0\nitems %d\nbytes %d\nEND\n",
+		m.gets, m.hits, m.stores, m.evicted, len(m.row), m.cost())
 }
 
 func (m *modelTenant) cost() int {
@@ -113,6 +159,10 @@ func modelOf(l []api.Tenant, in string) string {
 			out += "ERROR bad\n"
 		case kind == "get":
 			out += of.get(words[1:])
+		case kind == "stats":
+			out += of.stats()
+		case kind == "delete", kind == "incr", kind == "touch":
+			out += of.other(words)
 		default:
 			size, _ := strconv.Atoi(words[4])
 			if len(in) <= size {
@@ -138,37 +188,47 @@ func keyOf(r *rand.Rand) string {
 }
 
 func storeOf(r *rand.Rand) string {
-	size := pick(r, 0, 1, 2, 3, 7, 30, 99, 100)
+	size := pick(r, 0, 1, 2, 3, 7, 9, 10, 30, 99, 100)
 	name := pick(r, "set", "set", "set", "add", "replace", "cas")
 	line := fmt.Sprintf("%s %s %d %d %d", name, keyOf(r), r.Intn(65536), pick(r, 0, 1, 1000000), size)
 	if name == "cas" {
 		line += " " + strconv.Itoa(r.Intn(12))
 	}
 	value := make([]byte, max(0, size+pick(r, 0, 0, 0, 0, 0, 0, -1, 1, 5)))
+	from := pick(r, "vw \n\r\x00\xff", "0123456789", "099")
 	for i := range value {
-		value[i] = pick[byte](r, 'v', 'w', ' ', '\n', '\r', 0, 255)
+		value[i] = from[r.Intn(len(from))]
 	}
 	return line + pick(r, "\n", "\n", "\n", "\r\n") + string(value) + "\n"
+}
+
+// otherOf answers a line of a command that wants no value.
+func otherOf(r *rand.Rand) string {
+	n := pick(r, 0, 1, 9, 900, 1000000, 999999999)
+	line := pick(r, "stats", "delete "+keyOf(r), "incr "+keyOf(r)+" "+strconv.Itoa(n), "incr "+keyOf(r)+" "+strconv.Itoa(n), "touch "+keyOf(r)+" "+strconv.Itoa(min(n, 1000000)))
+	return line + pick(r, "\n", "\n", "\n", "\r\n")
 }
 
 // bytesOf answers bytes that a connection might be fed with: mostly what a client would say, some of it wrong.
 func bytesOf(r *rand.Rand, names ...string) string {
 	var b strings.Builder
 	b.WriteString(pick(r, "", "auth "+names[0]+" x\n", "auth "+names[0]+" x\n"))
-	for range r.Intn(25) {
-		switch r.Intn(12) {
+	for range r.Intn(35) {
+		switch r.Intn(16) {
 		case 0:
 			b.WriteString("auth " + pick(r, names...) + " " + pick(r, "x", "x", "y") + "\n")
 		case 1:
 			b.WriteString(strings.Repeat("x", 118+r.Intn(6)) + pick(r, "", "\r", "\n", "\r\n"))
 		case 2:
-			b.WriteString(pick(r, "", " ", "nothing", "get", "set a 0 0 101", "get a ", "quit now", "\r", "get a\r\r", "set a 0 0 1") + "\n")
+			b.WriteString(pick(r, "", " ", "nothing", "get", "set a 0 0 101", "get a ", "quit now", "\r", "get a\r\r", "set a 0 0 1", "stats a", "delete", "incr a", "incr a -1", "touch a", "touch a 1000001") + "\n")
 		case 3, 4, 5:
 			b.WriteString("get" + strings.Repeat(" "+keyOf(r), 1+r.Intn(3)) + " " + keyOf(r) + pick(r, "\n", "\r\n"))
 		case 6:
 			if r.Intn(10) == 0 {
 				b.WriteString("quit\n")
 			}
+		case 7, 8, 9, 10:
+			b.WriteString(otherOf(r))
 		default:
 			b.WriteString(storeOf(r))
 		}
@@ -208,13 +268,13 @@ func TestAsTheModel(t *testing.T) {
 	r := rand.New(rand.NewSource(1))
 	seen := ""
 	for range 4000 {
-		l := []api.Tenant{tenant("ann", "x", 1+r.Intn(2000)), tenant("bob", "x", 1+r.Intn(300)), tenant("eve", "y", 100)}
+		l := []api.Tenant{tenant("ann", "x", 1+r.Intn(pick(r, 60, 150, 300, 2000))), tenant("bob", "x", 1+r.Intn(300)), tenant("eve", "y", 100)}
 		in := bytesOf(r, "ann", "bob", "eve", "dan")
 		wantModel(t, r, l, in)
 		seen += modelOf(l, in)
 	}
-	for _, answer := range []string{"OK", "DENIED", "ERROR auth", "ERROR bad", "ERROR long", "ERROR data", "STORED", "NOT STORED", "NOT FOUND", "EXISTS", "TOO LARGE", "END"} {
-		if n := strings.Count(seen, "\n"+answer+"\n"); n < 50 {
+	for _, answer := range []string{"OK", "DENIED", "ERROR auth", "ERROR bad", "ERROR long", "ERROR data", "STORED", "NOT STORED", "NOT FOUND", "EXISTS", "TOO LARGE", "END", "DELETED", "NOT NUMBER", "TOUCHED", "evicted [1-9]", "(STORED|END|FOUND|bad)\n[0-9]+"} {
+		if n := len(regexp.MustCompile("(?m)^"+answer+"$").FindAllString(seen, -1)); n < 50 {
 			t.Errorf("only %d times was the answer %q: the bytes are not the ones to try", n, answer)
 		}
 	}
@@ -226,11 +286,6 @@ func FuzzFeed(f *testing.F) {
 		f.Add(bytesOf(r, "ann", "bob"), seed, 150)
 	}
 	f.Fuzz(func(t *testing.T, in string, seed int64, quota int) {
-		for _, later := range []string{"delete", "incr", "touch", "stats"} {
-			if strings.Contains(in, later) {
-				t.Skip("the model has not got this command")
-			}
-		}
 		l := []api.Tenant{tenant("ann", "x", 1+int(uint(quota)%2000)), tenant("bob", "x", 100)}
 		wantModel(t, rand.New(rand.NewSource(seed)), l, in)
 	})

@@ -306,6 +306,15 @@ func TestExamples(t *testing.T) {
 	says(t, s, 0, "set a 7 0 3|abc|", "STORED|")
 	says(t, s, 0, "get a b|", "VALUE a 7 3 1|abc|END|")
 	says(t, s, 0, "add a 0 0 1|x|", "NOT STORED|")
+	says(t, s, 0, "incr a 1|", "NOT NUMBER|")
+	for _, key := range []string{"b", "c", "d", "e"} {
+		says(t, s, 0, "set "+key+" 7 0 3|abc|", "STORED|")
+	}
+	says(t, s, 0, "get a|", "VALUE a 7 3 1|abc|END|")
+	says(t, s, 0, "set f 7 0 3|abc|", "STORED|")
+	says(t, s, 0, "stats|", "gets 3|hits 2|stores 6|evicted 1|expired 0|items 5|bytes 100|END|")
+	says(t, s, 0, "get b|", "END|")
+	annSays(t, "set n 0 5 2|09|incr n 1|get n|", "STORED|10|VALUE n 0 2 2|10|END|")
 	annSays(t, "set k 0 0 2|abc|get k|", "ERROR data|END|")
 }
 

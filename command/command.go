@@ -50,14 +50,28 @@ func (c Command) Stores() bool {
 	return false
 }
 
+// Key is for a command that has one.
+func (c Command) Key() string { return c.Texts[0] }
+
 // Flags is for a command that stores.
 func (c Command) Flags() int { return c.Numbers[0] }
+
+// Life is for a command that stores, and for touch.
+func (c Command) Life() int {
+	if c.Stores() {
+		return c.Numbers[1]
+	}
+	return c.Numbers[0]
+}
 
 // Size is for a command that stores.
 func (c Command) Size() int { return c.Numbers[2] }
 
 // Mark is for cas.
 func (c Command) Mark() int { return c.Numbers[3] }
+
+// Number is for incr.
+func (c Command) Number() int { return c.Numbers[0] }
 
 // shape says what may stand behind a command: a rule for each word, of which the first few must be there.
 type shape struct {

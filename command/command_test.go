@@ -36,7 +36,7 @@ func TestNothingReadOfABadLine(t *testing.T) {
 func TestCommandsThatStore(t *testing.T) {
 	for _, line := range []string{"set k 7 8 9", "add k 7 8 9", "replace k 7 8 9", "cas k 7 8 9 10"} {
 		c, _ := Read(line)
-		if !c.Stores() || c.Flags() != 7 || c.Size() != 9 {
+		if !c.Stores() || c.Key() != "k" || c.Flags() != 7 || c.Life() != 8 || c.Size() != 9 {
 			t.Errorf("%q: stores: %v, %+v", line, c.Stores(), c)
 		}
 	}
@@ -47,6 +47,18 @@ func TestCommandsThatStore(t *testing.T) {
 		if c, _ := Read(line); c.Stores() {
 			t.Errorf("%q stores", line)
 		}
+	}
+}
+
+func TestWhatTheOthersSay(t *testing.T) {
+	if c, _ := Read("touch k 5"); c.Key() != "k" || c.Life() != 5 {
+		t.Errorf("touch k 5: %+v, with the life %d", c, c.Life())
+	}
+	if c, _ := Read("incr k 6"); c.Key() != "k" || c.Number() != 6 {
+		t.Errorf("incr k 6: %+v, with the number %d", c, c.Number())
+	}
+	if c, _ := Read("delete k"); c.Key() != "k" {
+		t.Errorf("delete k: %+v", c)
 	}
 }
 

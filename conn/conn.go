@@ -122,11 +122,24 @@ func (c *Conn) doLine(line string) {
 		c.say("ERROR bad")
 	case read.Stores():
 		c.waiting, c.wants = read, aValue
-	case read.Name == "get":
-		c.get(read.Texts)
 	default:
-		// delete, incr, touch and stats are not there yet.
-		c.say("ERROR bad")
+		c.doAtOnce(read)
+	}
+}
+
+// doAtOnce does a command that wants no value.
+func (c *Conn) doAtOnce(read command.Command) {
+	switch read.Name {
+	case "get":
+		c.get(read.Texts)
+	case "delete":
+		c.say(c.store.Delete(read.Key()))
+	case "incr":
+		c.say(c.store.Incr(read.Key(), read.Number()))
+	case "touch":
+		c.say(c.store.Touch(read.Key(), read.Life()))
+	case "stats":
+		c.stats()
 	}
 }
 
@@ -150,17 +163,32 @@ func (c *Conn) get(keys []string) {
 	c.say("END")
 }
 
+func (c *Conn) stats() {
+	s := c.store.Stats()
+	c.count("gets", s.Gets)
+	c.count("hits", s.Hits)
+	c.count("stores", s.Stores)
+	c.count("evicted", s.Evicted)
+	c.count("expired", s.Expired)
+	c.count("items", s.Items)
+	c.count("bytes", s.Bytes)
+	c.say("END")
+}
+
+func (c *Conn) count(name string, n int) { c.say(name, strconv.Itoa(n)) }
+
 func (c *Conn) storeValue(value string) string {
-	i := store.Item{Key: c.waiting.Texts[0], Value: value, Flags: c.waiting.Flags()}
+	i := store.Item{Key: c.waiting.Key(), Value: value, Flags: c.waiting.Flags()}
+	life := c.waiting.Life()
 	switch c.waiting.Name {
 	case "add":
-		return c.store.Add(i)
+		return c.store.Add(i, life)
 	case "replace":
-		return c.store.Replace(i)
+		return c.store.Replace(i, life)
 	case "cas":
-		return c.store.Cas(i, c.waiting.Mark())
+		return c.store.Cas(i, life, c.waiting.Mark())
 	}
-	return c.store.Set(i)
+	return c.store.Set(i, life)
 }
 
 // say answers one line.
