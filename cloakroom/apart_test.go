@@ -1,8 +1,10 @@
 package cloakroom_test
 
 import (
+	"fmt"
 	"math"
 	"math/rand"
+	"slices"
 	"strings"
 	"testing"
 
@@ -24,33 +26,43 @@ func TestTenantsWithTheSameKeys(t *testing.T) {
 	says(t, s, 1, "get a b|", "VALUE b 2 3 2|bob|END|")
 }
 
-// part is what comes to one connection at one time.
+// part is what comes to one connection at one time, and what is handed to Tick behind it.
 type part struct {
-	conn  int
-	bytes string
+	conn    int
+	bytes   string
+	seconds int
 }
 
-// partsOf cuts what each connection is to be fed with, and mixes the pieces.
+func (p part) String() string { return fmt.Sprintf("%d %q Tick(%d)", p.conn, p.bytes, p.seconds) }
+
+// secondsOf answers mostly few, or none at all, now and then so many that all that has an end has ended, or what may not be.
+func secondsOf(r *rand.Rand) int {
+	if r.Intn(40) == 0 {
+		return pick(r, 1000000, 999999, -1, 1000001, math.MaxInt, math.MinInt)
+	}
+	return pick(r, 0, 0, 0, 0, 1, 1, 2, 5)
+}
+
+// partsOf cuts what each connection is to be fed with, mixes the pieces, and lets time go by between some.
 func partsOf(r *rand.Rand, ins []string) []part {
 	var parts []part
 	left := append([]string(nil), ins...)
 	for strings.Join(left, "") != "" {
 		c := r.Intn(len(left))
 		n := min(len(left[c]), 1+r.Intn(60))
-		parts = append(parts, part{c, left[c][:n]})
+		parts = append(parts, part{c, left[c][:n], secondsOf(r)})
 		left[c] = left[c][n:]
 	}
 	return parts
 }
 
-// fed answers what these connections were answered, of the parts that are theirs.
+// fed answers what these connections were answered, of the parts that are theirs. The ticks are everyone's.
 func fed(s *cloakroom.Server, parts []part, conns ...int) string {
 	for _, p := range parts {
-		for _, c := range conns {
-			if p.conn == c {
-				s.Feed(c, p.bytes)
-			}
+		if slices.Contains(conns, p.conn) {
+			s.Feed(p.conn, p.bytes)
 		}
+		s.Tick(p.seconds)
 	}
 	out := ""
 	for _, c := range conns {
@@ -68,9 +80,11 @@ func fedAmong(t *testing.T, l []api.Tenant, parts []part, conns int) []string {
 		other.Feed(conns-1-p.conn, p.bytes)
 		s.Feed(p.conn, p.bytes)
 		other.Feed(p.conn, "\nauth ann x\nset a 0 0 1\n1\nstats\n")
+		other.Tick(3)
 		c, _ := s.Dial()
 		s.Feed(c, "stats\ndelete a\nauth ann wrong\nset a 0 0 1\n1\nget a\nquit")
 		s.Hang(c)
+		s.Tick(p.seconds)
 	}
 	var answers []string
 	for c := range conns {
@@ -84,6 +98,7 @@ func fedAmong(t *testing.T, l []api.Tenant, parts []part, conns int) []string {
 func TestNobodyNoticesTheOthers(t *testing.T) {
 	r := rand.New(rand.NewSource(3))
 	l := []api.Tenant{tenant("ann", "x", 90), tenant("bob", "x", 150), tenant("eve", "x", 40)}
+	ended := 0
 	for range 1000 {
 		var ins []string
 		for c := range 6 {
@@ -99,9 +114,13 @@ func TestNobodyNoticesTheOthers(t *testing.T) {
 		for c := range 3 {
 			alone := fed(dialled(t, 6, l...), parts, c, c+3)
 			if got := answers[c] + answers[c+3]; got != alone {
-				t.Fatalf("P9: %s is answered\n%q\n among others, and\n%q\n alone, to %+v", l[c].Name, got, alone, parts)
+				t.Fatalf("P9: %s is answered\n%q\n among others, and\n%q\n alone, to %v", l[c].Name, got, alone, parts)
 			}
+			ended += strings.Count(alone, "\nexpired ") - strings.Count(alone, "\nexpired 0\n")
 		}
+	}
+	if ended < 1000 {
+		t.Errorf("only %d times was it told that some have ended: the ticks are not the ones to try", ended)
 	}
 }
 
@@ -128,11 +147,13 @@ func TestServersOfTheSameTenants(t *testing.T) {
 		servers := []*cloakroom.Server{dialled(t, 2, l...), dialled(t, 2, l...)}
 		for _, p := range parts {
 			servers[p.conn].Feed(p.conn, p.bytes)
+			servers[p.conn].Tick(p.seconds)
 		}
 		for c, s := range servers {
 			got, _ := s.Take(c, math.MaxInt)
-			if want := fed(dialled(t, 2, l...), parts, c); got+"--\n" != want {
-				t.Fatalf("P2: beside another server %+v is answered\n%q\n want\n%q", parts, got, want)
+			own := slices.DeleteFunc(slices.Clone(parts), func(p part) bool { return p.conn != c })
+			if want := fed(dialled(t, 2, l...), own, c); got+"--\n" != want {
+				t.Fatalf("P2: beside another server %v is answered\n%q\n want\n%q", own, got, want)
 			}
 		}
 	}

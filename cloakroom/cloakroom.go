@@ -14,6 +14,7 @@ import (
 type Server struct {
 	tenants map[string]tenant // by name
 	conns   []*conn.Conn      // by number: nil where there is none
+	now     int               // the time, in seconds
 }
 
 // Line tells what a line is (P3).
@@ -75,7 +76,14 @@ func (s *Server) Take(c int, n int) (string, api.Errno) {
 }
 
 // Tick lets time go by (P10).
-func (s *Server) Tick(n int) api.Errno { return api.OK }
+func (s *Server) Tick(n int) api.Errno {
+	if n < 0 || n > api.MaxTime || s.now+n > api.MaxClock {
+		return api.ErrArg
+	}
+	s.now += n
+	s.lookOver()
+	return api.OK
+}
 
 func (s *Server) has(c int) bool {
 	return c >= 0 && c < len(s.conns) && s.conns[c] != nil

@@ -6,9 +6,13 @@ import (
 	"testing"
 )
 
-// statsOf is what stats answers, a bar for each newline. No time goes by, so none has ended.
+// statsOf is what stats answers where none has ended, a bar for each newline.
 func statsOf(gets, hits, stores, evicted, items, bytes int) string {
-	return fmt.Sprintf("gets %d|hits %d|stores %d|evicted %d|expired 0|items %d|bytes %d|END|", gets, hits, stores, evicted, items, bytes)
+	return endedStats(gets, hits, stores, evicted, 0, items, bytes)
+}
+
+func endedStats(gets, hits, stores, evicted, expired, items, bytes int) string {
+	return fmt.Sprintf("gets %d|hits %d|stores %d|evicted %d|expired %d|items %d|bytes %d|END|", gets, hits, stores, evicted, expired, items, bytes)
 }
 
 // annWith is said on a new server, on a connection that belongs to ann, who has this quota.

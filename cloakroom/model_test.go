@@ -15,18 +15,37 @@ import (
 )
 
 // A model of what one connection is answered, told in another way than the program does it:
-// all bytes are there at once, and a tenant's entries stand in a slice, the one that was used last at its end.
+// all bytes are there at once, a tenant's entries stand in a slice, the one that was used last at its end, and each knows how many seconds it has left.
 
 type modelEntry struct {
 	key, value  string
 	flags, mark int
+	left        int // 0: it has no end
 }
 
 type modelTenant struct {
 	api.Tenant
-	row                         []modelEntry
-	marks                       int
-	gets, hits, stores, evicted int
+	row                                  []modelEntry
+	marks                                int
+	gets, hits, stores, evicted, expired int
+}
+
+// tick is a number of seconds that is to go by when so many bytes have come.
+type tick struct{ behind, seconds int }
+
+// pass lets seconds go by.
+func (m *modelTenant) pass(seconds int) {
+	var row []modelEntry
+	for _, e := range m.row {
+		if e.left == 0 {
+			row = append(row, e)
+		} else if e.left -= seconds; e.left > 0 {
+			row = append(row, e)
+		} else {
+			m.expired++
+		}
+	}
+	m.row = row
 }
 
 func (m *modelTenant) at(key string) int {
@@ -63,11 +82,12 @@ func (m *modelTenant) store(words []string, value string) string {
 		return "EXISTS\n"
 	}
 	flags, _ := strconv.Atoi(words[2])
-	return m.put(words[1], value, flags, "STORED\n")
+	life, _ := strconv.Atoi(words[3])
+	return m.put(words[1], value, flags, life, "STORED\n")
 }
 
 // put answers what is said, if there is room.
-func (m *modelTenant) put(key, value string, flags int, said string) string {
+func (m *modelTenant) put(key, value string, flags, life int, said string) string {
 	if len(key)+len(value)+16 > m.Quota {
 		return "TOO LARGE\n"
 	}
@@ -76,7 +96,7 @@ func (m *modelTenant) put(key, value string, flags int, said string) string {
 	}
 	m.marks++
 	m.stores++
-	m.row = append(m.row, modelEntry{key, value, flags, m.marks})
+	m.row = append(m.row, modelEntry{key, value, flags, m.marks, life})
 	for m.cost() > m.Quota {
 		m.row = m.row[1:]
 		m.evicted++
@@ -96,6 +116,7 @@ func (m *modelTenant) other(words []string) string {
 		m.row = slices.Delete(m.row, i, i+1)
 		return "DELETED\n"
 	case words[0] == "touch":
+		m.row[i].left, _ = strconv.Atoi(words[2])
 		m.use(i)
 		return "TOUCHED\n"
 	case !digits.MatchString(m.row[i].value):
@@ -105,12 +126,12 @@ func (m *modelTenant) other(words []string) string {
 	fmt.Sscanf(m.row[i].value, "%d", &there)
 	fmt.Sscanf(words[2], "%d", &more)
 	sum := fmt.Sprint(there + more)
-	return m.put(words[1], sum, m.row[i].flags, sum+"\n")
+	return m.put(words[1], sum, m.row[i].flags, m.row[i].left, sum+"\n")
 }
 
 func (m *modelTenant) stats() string {
-	return fmt.Sprintf("gets %d\nhits %d\nstores %d\nevicted %d\nexpired 0\nitems %d\nbytes %d\nEND\n",
-		m.gets, m.hits, m.stores, m.evicted, len(m.row), m.cost())
+	return fmt.Sprintf("gets %d\nhits %d\nstores %d\nevicted %d\nexpired %d\nitems %d\nbytes %d\nEND\n",
+		m.gets, m.hits, m.stores, m.evicted, m.expired, len(m.row), m.cost())
 }
 
 func (m *modelTenant) cost() int {
@@ -121,14 +142,41 @@ func (m *modelTenant) cost() int {
 	return sum
 }
 
-// modelOf tells what is answered to these bytes on the first connection of a new server.
-func modelOf(l []api.Tenant, in string) string {
+// passAll lets the ticks go by that came ahead of the last of so many bytes, and answers the others. A tick that may not be is none.
+func passAll(tenants []*modelTenant, now *int, ticks []tick, bytes int) []tick {
+	for len(ticks) > 0 && ticks[0].behind < bytes {
+		n := ticks[0].seconds
+		if n >= 0 && n <= 1000000 && *now+n <= 1000000000 {
+			*now += n
+			for _, m := range tenants {
+				m.pass(n)
+			}
+		}
+		ticks = ticks[1:]
+	}
+	return ticks
+}
+
+// joined answers the bytes of all parts, and the ticks that stand between them.
+func joined(parts []part) (string, []tick) {
+	in, ticks := "", []tick(nil)
+	for _, p := range parts {
+		in += p.bytes
+		ticks = append(ticks, tick{len(in), p.seconds})
+	}
+	return in, ticks
+}
+
+// modelOf tells what is answered to these parts on the first connection of a new server.
+func modelOf(l []api.Tenant, parts []part) string {
 	var tenants []*modelTenant
 	for _, one := range l {
 		tenants = append(tenants, &modelTenant{Tenant: one})
 	}
 	var of *modelTenant
-	out := ""
+	now := 0
+	in, ticks := joined(parts)
+	all, out := len(in), ""
 	for {
 		line, rest, found := strings.Cut(in, "\n")
 		if len(line) > 120 {
@@ -140,6 +188,7 @@ func modelOf(l []api.Tenant, in string) string {
 			return out
 		}
 		in = rest
+		ticks = passAll(tenants, &now, ticks, all-len(in))
 		line = strings.TrimSuffix(line, "\r")
 		words, kind := strings.Split(line, " "), lineByForms(line)
 		switch {
@@ -170,8 +219,9 @@ func modelOf(l []api.Tenant, in string) string {
 			}
 			value := in[:size]
 			if in[size] == '\n' {
-				out += of.store(words, value)
 				in = in[size+1:]
+				ticks = passAll(tenants, &now, ticks, all-len(in))
+				out += of.store(words, value)
 			} else {
 				out += "ERROR data\n"
 				_, in, _ = strings.Cut(in[size:], "\n")
@@ -187,10 +237,13 @@ func keyOf(r *rand.Rand) string {
 	return pick(r, "a", "b", "c", "dd", "eeeeeeeeee", "ffffffffffffffffffff")
 }
 
+// lifeOf answers one of a few lives, mostly short ones, so that several end at once.
+func lifeOf(r *rand.Rand) int { return pick(r, 0, 0, 1, 2, 3, 5, 8, 13, 999999, 1000000) }
+
 func storeOf(r *rand.Rand) string {
 	size := pick(r, 0, 1, 2, 3, 7, 9, 10, 30, 99, 100)
 	name := pick(r, "set", "set", "set", "add", "replace", "cas")
-	line := fmt.Sprintf("%s %s %d %d %d", name, keyOf(r), r.Intn(65536), pick(r, 0, 1, 1000000), size)
+	line := fmt.Sprintf("%s %s %d %d %d", name, keyOf(r), r.Intn(65536), lifeOf(r), size)
 	if name == "cas" {
 		line += " " + strconv.Itoa(r.Intn(12))
 	}
@@ -205,7 +258,7 @@ func storeOf(r *rand.Rand) string {
 // otherOf answers a line of a command that wants no value.
 func otherOf(r *rand.Rand) string {
 	n := pick(r, 0, 1, 9, 900, 1000000, 999999999)
-	line := pick(r, "stats", "delete "+keyOf(r), "incr "+keyOf(r)+" "+strconv.Itoa(n), "incr "+keyOf(r)+" "+strconv.Itoa(n), "touch "+keyOf(r)+" "+strconv.Itoa(min(n, 1000000)))
+	line := pick(r, "stats", "delete "+keyOf(r), "incr "+keyOf(r)+" "+strconv.Itoa(n), "incr "+keyOf(r)+" "+strconv.Itoa(n), "touch "+keyOf(r)+" "+strconv.Itoa(lifeOf(r)))
 	return line + pick(r, "\n", "\n", "\n", "\r\n")
 }
 
@@ -237,43 +290,62 @@ func bytesOf(r *rand.Rand, names ...string) string {
 	return b.String()
 }
 
-// cutOf feeds a connection in pieces, takes in between, and answers all that was taken.
-func cutOf(r *rand.Rand, s *cloakroom.Server, c int, in string) string {
+// cutOf feeds a connection in smaller pieces yet, takes in between, and answers all that was taken.
+func cutOf(r *rand.Rand, s *cloakroom.Server, c int, parts []part) string {
 	out := ""
-	for in != "" {
-		n := min(len(in), pick(r, 0, 1, 1, 2, 3, 10, 50, 121))
-		s.Feed(c, in[:n])
-		in = in[n:]
-		x, _ := s.Take(c, pick(r, -1, 0, 1, 5, 100))
-		out += x
+	for _, p := range parts {
+		for in := p.bytes; in != ""; {
+			n := min(len(in), pick(r, 0, 1, 1, 2, 3, 10, 50, 121))
+			s.Feed(c, in[:n])
+			in = in[n:]
+			x, _ := s.Take(c, pick(r, -1, 0, 1, 5, 100))
+			out += x
+		}
+		s.Tick(p.seconds)
 	}
 	x, _ := s.Take(c, math.MaxInt)
 	return out + x
 }
 
-func wantModel(t *testing.T, r *rand.Rand, l []api.Tenant, in string) {
+// wantModel answers what the model tells.
+func wantModel(t *testing.T, r *rand.Rand, l []api.Tenant, parts []part) string {
 	t.Helper()
-	want := modelOf(l, in)
-	s := dialled(t, 1, l...)
-	s.Feed(0, in)
-	if got, e := s.Take(0, math.MaxInt); got != want || e != api.OK {
-		t.Fatalf("P6: %q\n is answered %q, %d\n want %q", in, got, e, want)
+	want := modelOf(l, parts) + "--\n"
+	if got := fed(dialled(t, 1, l...), parts, 0); got != want {
+		t.Fatalf("P6, P10: %v\n is answered %q\n want %q", parts, got, want)
 	}
-	if got := cutOf(r, dialled(t, 1, l...), 0, in); got != want {
-		t.Fatalf("P7: %q\n in pieces is answered %q\n want %q", in, got, want)
+	if got := cutOf(r, dialled(t, 1, l...), 0, parts) + "--\n"; got != want {
+		t.Fatalf("P7: %v\n in smaller pieces is answered %q\n want %q", parts, got, want)
 	}
+	return want
+}
+
+// lateParts answers parts that bring a server's time almost as far as it goes, where many ticks may not be.
+func lateParts() []part {
+	parts := []part{{seconds: 999990}}
+	for range 999 {
+		parts = append(parts, part{seconds: 1000000})
+	}
+	return parts
 }
 
 func TestAsTheModel(t *testing.T) {
 	r := rand.New(rand.NewSource(1))
-	seen := ""
-	for range 4000 {
+	var answers strings.Builder
+	for n := range 6000 {
 		l := []api.Tenant{tenant("ann", "x", 1+r.Intn(pick(r, 60, 150, 300, 2000))), tenant("bob", "x", 1+r.Intn(300)), tenant("eve", "y", 100)}
 		in := bytesOf(r, "ann", "bob", "eve", "dan")
-		wantModel(t, r, l, in)
-		seen += modelOf(l, in)
+		parts := []part{{bytes: in}}
+		if n%3 > 0 {
+			parts = partsOf(r, []string{in})
+		}
+		if n%200 == 1 {
+			parts = append(lateParts(), parts...)
+		}
+		answers.WriteString(wantModel(t, r, l, parts))
 	}
-	for _, answer := range []string{"OK", "DENIED", "ERROR auth", "ERROR bad", "ERROR long", "ERROR data", "STORED", "NOT STORED", "NOT FOUND", "EXISTS", "TOO LARGE", "END", "DELETED", "NOT NUMBER", "TOUCHED", "evicted [1-9]", "(STORED|END|FOUND|bad)\n[0-9]+"} {
+	seen := answers.String()
+	for _, answer := range []string{"OK", "DENIED", "ERROR auth", "ERROR bad", "ERROR long", "ERROR data", "STORED", "NOT STORED", "NOT FOUND", "EXISTS", "TOO LARGE", "END", "DELETED", "NOT NUMBER", "TOUCHED", "evicted [1-9]", "expired [1-9]", "(STORED|END|FOUND|bad)\n[0-9]+"} {
 		if n := len(regexp.MustCompile("(?m)^"+answer+"$").FindAllString(seen, -1)); n < 50 {
 			t.Errorf("only %d times was the answer %q: the bytes are not the ones to try", n, answer)
 		}
@@ -287,6 +359,8 @@ func FuzzFeed(f *testing.F) {
 	}
 	f.Fuzz(func(t *testing.T, in string, seed int64, quota int) {
 		l := []api.Tenant{tenant("ann", "x", 1+int(uint(quota)%2000)), tenant("bob", "x", 100)}
-		wantModel(t, rand.New(rand.NewSource(seed)), l, in)
+		r := rand.New(rand.NewSource(seed))
+		wantModel(t, r, l, []part{{bytes: in}})
+		wantModel(t, r, l, partsOf(r, []string{in}))
 	})
 }

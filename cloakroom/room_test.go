@@ -102,19 +102,19 @@ func TestNeverMoreThanTheQuota(t *testing.T) {
 	r := rand.New(rand.NewSource(5))
 	for range 300 {
 		quota := 1 + r.Intn(pick(r, 50, 150, 500))
-		var commands []string
+		row := []part{{bytes: "auth ann x\n"}}
 		for range 1 + r.Intn(30) {
-			commands = append(commands, pick(r, storeOf(r), storeOf(r), otherOf(r), "get "+keyOf(r)+"\n"))
+			row = append(row, part{0, pick(r, storeOf(r), storeOf(r), otherOf(r), "get "+keyOf(r)+"\n"), secondsOf(r)})
 		}
-		for n := range len(commands) + 1 {
+		for n := range len(row) + 1 {
 			s := dialled(t, 2, tenant("ann", "x", quota))
-			s.Feed(0, "auth ann x\n"+strings.Join(commands[:n], ""))
+			fed(s, row[:n], 0)
 			s.Feed(1, "auth ann x\nget a b c dd eeeeeeeeee ffffffffffffffffffff\nstats\n")
 			x, _ := s.Take(1, math.MaxInt)
 			cost, items := costOf(x)
 			told := costs.FindStringSubmatch(x)
 			if cost > quota || told == nil || told[1] != strconv.Itoa(items) || told[2] != strconv.Itoa(cost) {
-				t.Fatalf("P8: behind %q, %d entries cost %d of %d, and stats tells %v", commands[:n], items, cost, quota, told)
+				t.Fatalf("P8: behind %v, %d entries cost %d of %d, and stats tells %v", row[:n], items, cost, quota, told)
 			}
 		}
 	}

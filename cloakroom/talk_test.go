@@ -314,7 +314,12 @@ func TestExamples(t *testing.T) {
 	says(t, s, 0, "set f 7 0 3|abc|", "STORED|")
 	says(t, s, 0, "stats|", "gets 3|hits 2|stores 6|evicted 1|expired 0|items 5|bytes 100|END|")
 	says(t, s, 0, "get b|", "END|")
-	annSays(t, "set n 0 5 2|09|incr n 1|get n|", "STORED|10|VALUE n 0 2 2|10|END|")
+	s = dialled(t, 1, ann)
+	says(t, s, 0, "auth ann x|set n 0 5 2|09|incr n 1|", "OK|STORED|10|")
+	wantTick(t, s, 4, api.OK)
+	says(t, s, 0, "get n|", "VALUE n 0 2 2|10|END|")
+	wantTick(t, s, 1, api.OK)
+	says(t, s, 0, "get n|", "END|")
 	annSays(t, "set k 0 0 2|abc|get k|", "ERROR data|END|")
 }
 

@@ -2,6 +2,7 @@ package cloakroom
 
 import (
 	"strings"
+	"sync"
 
 	"cloakroom/api"
 	"cloakroom/bounds"
@@ -44,4 +45,13 @@ func (s *Server) storeOf(name, token string) *store.Store {
 		return nil
 	}
 	return t.store
+}
+
+// lookOver lets go what has ended, each tenant's by a goroutine of its own. It waits for all of them, so that whatever is asked next finds the new time.
+func (s *Server) lookOver() {
+	var all sync.WaitGroup
+	for _, t := range s.tenants {
+		all.Go(func() { t.store.ComeTo(s.now) })
+	}
+	all.Wait()
 }

@@ -1,4 +1,4 @@
-// Package store keeps the entries of one tenant, within its quota.
+// Package store keeps the entries of one tenant, within its quota, each till it ends.
 package store
 
 import (
@@ -41,6 +41,8 @@ type Entry struct {
 	used int // when it was used last: what was used later has a greater number
 }
 
+func (e Entry) endsBy(now int) bool { return e.end != 0 && e.end <= now }
+
 // Stats are a store's numbers: what was done so far, and what is there.
 type Stats struct {
 	Gets, Hits, Stores, Evicted, Expired int
@@ -52,15 +54,17 @@ type Store struct {
 	lock    sync.Mutex
 	quota   int
 	entries map[string]Entry
+	now     int // the time, in seconds
 	cost    int // of all entries together
 	mark    int // the one that was given last
 	uses    int // how many there were
 	gets    int // how many keys were asked for
 	hits    int // how many of these had an entry
 	evicted int
+	expired int
 }
 
-// New makes a store without entries.
+// New makes a store without entries, at the time 0.
 func New(quota int) *Store { return &Store{quota: quota, entries: map[string]Entry{}} }
 
 // Get uses the entry of a key, and answers it, or false if there is none.
@@ -81,7 +85,7 @@ func (s *Store) Get(key string) (Entry, bool) {
 func (s *Store) Set(i Item, life int) string {
 	s.lock.Lock()
 	defer s.lock.Unlock()
-	return s.put(i, endOf(life))
+	return s.put(i, s.endOf(life))
 }
 
 // Add stores an item if there is no entry of its key.
@@ -91,7 +95,7 @@ func (s *Store) Add(i Item, life int) string {
 	if _, there := s.entries[i.Key]; there {
 		return NotStored
 	}
-	return s.put(i, endOf(life))
+	return s.put(i, s.endOf(life))
 }
 
 // Replace stores an item if there is an entry of its key.
@@ -101,7 +105,7 @@ func (s *Store) Replace(i Item, life int) string {
 	if _, there := s.entries[i.Key]; !there {
 		return NotStored
 	}
-	return s.put(i, endOf(life))
+	return s.put(i, s.endOf(life))
 }
 
 // Cas stores an item if there is an entry of its key with this mark.
@@ -115,7 +119,7 @@ func (s *Store) Cas(i Item, life, mark int) string {
 	if e.Mark != mark {
 		return Exists
 	}
-	return s.put(i, endOf(life))
+	return s.put(i, s.endOf(life))
 }
 
 // Delete lets the entry of a key go.
@@ -156,9 +160,22 @@ func (s *Store) Touch(key string, life int) string {
 	if !there {
 		return NotFound
 	}
-	e.end = endOf(life)
+	e.end = s.endOf(life)
 	s.use(e)
 	return Touched
+}
+
+// ComeTo makes it this time now, and lets the entries go that have ended by then.
+func (s *Store) ComeTo(now int) {
+	s.lock.Lock()
+	defer s.lock.Unlock()
+	s.now = now
+	for key, e := range s.entries {
+		if e.endsBy(now) {
+			s.remove(key)
+			s.expired++
+		}
+	}
 }
 
 // Stats answers the numbers, and uses nothing.
@@ -170,13 +187,19 @@ func (s *Store) Stats() Stats {
 		Hits:    s.hits,
 		Stores:  s.mark, // whatever was stored took the next mark
 		Evicted: s.evicted,
+		Expired: s.expired,
 		Items:   len(s.entries),
 		Bytes:   s.cost,
 	}
 }
 
-// endOf answers the time at which a life ends that begins now. As no time goes by yet, now is 0.
-func endOf(life int) int { return life }
+// endOf answers the time at which a life ends that begins now.
+func (s *Store) endOf(life int) int {
+	if life == 0 {
+		return 0
+	}
+	return s.now + life
+}
 
 // numberOf allows a value what no word may have: a 0 at its beginning.
 func numberOf(value string) (int, bool) {

@@ -182,11 +182,23 @@ func TestManyWorkOnOneStore(t *testing.T) {
 }
 
 func TestEnds(t *testing.T) {
+	wantEndsFrom(t, 0)
+	wantEndsFrom(t, 1)
+	wantEndsFrom(t, 1000000000)
+}
+
+func wantEndsFrom(t *testing.T, now int) {
+	t.Helper()
 	s := New(2000)
-	wantEnd := func(what string, end int) {
+	s.ComeTo(now)
+	wantEnd := func(what string, life int) {
 		t.Helper()
+		end := 0
+		if life > 0 {
+			end = now + life
+		}
 		if got := s.entries["a"].end; got != end {
-			t.Errorf("behind %s it ends at %d, want %d", what, got, end)
+			t.Errorf("behind %s at %d it ends at %d, want %d", what, now, got, end)
 		}
 	}
 	s.Add(item("a", "1"), 5)
@@ -213,6 +225,71 @@ func TestEnds(t *testing.T) {
 	wantEnd("cas", 4)
 	s.Set(item("a", "1"), 0)
 	wantEnd("set with no life", 0)
+}
+
+func TestComeTo(t *testing.T) {
+	s := New(100)
+	for n, key := range []string{"a", "b", "c", "d", "e"} {
+		s.Set(item(key, "123"), n) // a has no end
+	}
+	for _, c := range []struct {
+		now     int
+		keys    string
+		expired int
+	}{{0, "abcde", 0}, {1, "acde", 1}, {1, "acde", 1}, {3, "ae", 3}, {4, "a", 4}, {1000000000, "a", 4}} {
+		s.ComeTo(c.now)
+		wantKeys(t, s, c.keys)
+		wantCost(t, s)
+		if stats := s.Stats(); stats.Expired != c.expired || stats.Evicted != 0 || stats.Items != len(c.keys) || stats.Bytes != 20*len(c.keys) {
+			t.Errorf("at %d the numbers are %+v", c.now, stats)
+		}
+	}
+}
+
+func TestComeToUsesNothing(t *testing.T) {
+	s := New(60)
+	for _, key := range []string{"a", "b", "c"} {
+		s.Set(item(key, "123"), 9)
+	}
+	s.Get("a")
+	s.ComeTo(8)
+	s.Set(item("d", "123"), 0)
+	wantKeys(t, s, "acd")
+	s.Set(item("e", "123"), 0)
+	wantKeys(t, s, "ade")
+}
+
+// Whoever works on a store when time goes by finds it as it was ahead, or as it is behind; for a run with the race detector.
+func TestTimeGoesByWhileOthersWork(t *testing.T) {
+	s := New(2000)
+	var all sync.WaitGroup
+	all.Go(func() {
+		for now := range 2000 {
+			s.ComeTo(now)
+		}
+	})
+	for range 4 {
+		all.Go(func() {
+			for n := range 1000 {
+				key := strconv.Itoa(n % 20)
+				s.Set(item(key, "1"), 1+n%3)
+				s.Touch(key, 1)
+				s.Incr(key, 1)
+				if e, there := s.Get(key); there != (e.Key == key) {
+					t.Errorf("Get(%q) = %+v, %v", key, e, there)
+				}
+				if stats := s.Stats(); stats.Bytes > 20*stats.Items || stats.Bytes < 18*stats.Items || stats.Items > 20 {
+					t.Errorf("of 20 keys: %+v", stats)
+				}
+			}
+		})
+	}
+	all.Wait()
+	wantCost(t, s)
+	s.ComeTo(3000)
+	if stats := s.Stats(); stats.Items != 0 || stats.Bytes != 0 || stats.Expired < 1 {
+		t.Errorf("when all have ended: %+v", stats)
+	}
 }
 
 func TestDelete(t *testing.T) {
